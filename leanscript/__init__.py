@@ -1,0 +1,1 @@
+"""Leanscript: programs made short, and led back."""

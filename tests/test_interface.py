@@ -1,0 +1,45 @@
+"""The interface: names, arguments, and the files in which they are defined."""
+
+import importlib
+import inspect
+import unittest
+
+# For each file its functions with their arguments; those behind a * by their names alone.
+FUNCTIONS = {
+    "words": {"words": "(text)"},
+    "trees": {"must_tree": "(thing)", "part_at": "(tree, path)", "parts": "(tree)"},
+    "reading": {"read": "(text)", "spots": "(text)"},
+    "writing": {"tight": "(tree)", "plain": "(tree)", "tight_spots": "(tree)"},
+    "rooms": {"bindings": "(tree)", "outers": "(tree)", "rooms": "(tree)"},
+    "teller": {"run": "(tree, ins, *, most=2000)"},
+}
+ERRORS = {
+    "LeanError": None, "NoText": "(at=0)", "NoTree": "(path=(), why='')", "NoPath": None, "NoNaming": "(one=None, other=None)",
+    "NoLetters": None, "NoCount": None, "NoTurning": None, "NoMap": None, "NoLine": None, "TooMany": None,
+}
+
+
+class Interface(unittest.TestCase):
+
+    def test_functions(self):
+        for file, functions in FUNCTIONS.items():
+            module = importlib.import_module("leanscript." + file)
+            for word, arguments in functions.items():
+                function = getattr(module, word)
+                self.assertTrue(inspect.isfunction(function))
+                self.assertEqual(function.__module__, "leanscript." + file)
+                self.assertEqual(str(inspect.signature(function)), arguments, word)
+
+    def test_errors(self):
+        module = importlib.import_module("leanscript.errors")
+        for word, arguments in ERRORS.items():
+            self.assertTrue(inspect.isclass(getattr(module, word)))
+            if arguments is not None:
+                self.assertEqual(str(inspect.signature(getattr(module, word))), arguments)
+
+    def test_most(self):
+        self.assertEqual(importlib.import_module("leanscript.teller").MOST, 2000)
+
+
+if __name__ == "__main__":
+    unittest.main()
