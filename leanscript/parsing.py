@@ -46,17 +46,22 @@ def with_body(source):
     return Node(thing, begin, source.passed(), [*numbered((1,), xs), *numbered((2,), body)])
 
 
-def field(source):
-    """A pair of a record, as a node that is no part."""
-    k = source.take_name()
-    source.take(":")
+def pair(source, sign):
+    """A name and an expression with a sign between, as a node that is no part."""
+    name = source.take_name()
+    source.take(sign)
     node = expression(source)
-    return Node((k.thing, node.thing), k.begin, node.end, [((0,), k), ((1,), node)])
+    return Node((name.thing, node.thing), name.begin, node.end, [((0,), name), ((1,), node)])
+
+
+def field(source):
+    """A pair of a record."""
+    return pair(source, ":")
 
 
 def flattened(steps, pairs):
     """The nodes in the nodes of pairs."""
-    return [((*steps, at, *inner), node) for at, pair in enumerate(pairs) for inner, node in pair.inner]
+    return [((*steps, at, *inner), node) for at, row in enumerate(pairs) for inner, node in row.inner]
 
 
 def record(source):
@@ -187,20 +192,12 @@ def ended(source, node):
     return node
 
 
-def pair_let(source):
-    """A pair of a let, as a node that is no part."""
-    x = source.take_name()
-    source.take("=")
-    node = expression(source)
-    return Node((x.thing, node.thing), x.begin, node.end, [((0,), x), ((1,), node)])
-
-
 def letting(source):
     begin = source.place()
     source.take("let")
-    pairs = [pair_let(source)]
+    pairs = [pair(source, "=")]
     while source.takes(","):
-        pairs.append(pair_let(source))
+        pairs.append(pair(source, "="))
     return Node(("let", things_of(pairs)), begin, source.passed(), flattened((1,), pairs))
 
 
