@@ -2,6 +2,10 @@
 
 import random
 
+from leanscript.errors import NoTree
+from leanscript.reading import read
+from leanscript.trees import must_tree
+
 NAMES = ("a", "b", "c", "d", "ab", "longestnames")
 KEPT = ("let", "if", "else", "while", "return", "fail", "try", "catch", "out", "fn")
 TWO_SIGNS = ("+", "-", "*", "/", "~", "<", ">", "<=", ">=", "==", "!=")
@@ -33,6 +37,13 @@ def nested(depth, word="neg", inner=("num", 1)):
     for _ in range(depth - 1):
         inner = (word, inner)
     return inner
+
+
+def thing_at(tree, path):
+    """What stands at a path."""
+    for step in path:
+        tree = tree[step]
+    return tree
 
 
 def lists_in(thing):
@@ -146,6 +157,33 @@ class Maker:
 
 def trees_at_random(many, depth=5):
     return [Maker(seed).statements(depth) for seed in range(many)]
+
+
+LIVE = read("""let a = 2, b = [a: 1, b: 5, ab: []], c = fn (a) a + 1,
+    d = fn () { let c = 3; while (c) c = c - 1; return c }, ab = 0;""")
+
+
+def live_tree(seed, depth=5):
+    """A tree at random that goes on behind failures, and the names of which often have worths."""
+    maker = Maker(seed)
+    told = []
+    for _ in range(3):
+        body = maker.statements(depth, True, ("a", "b", "c", "d", "ab"))
+        told.append(("try", (("out", ("call", ("fn", (), body), ())),), "d", (("out", name("d")),)))
+    return LIVE + tuple(told) + maker.statements(depth, False, ("a", "b", "c", "d", "ab"), ("a", "b", "c", "d", "ab"))
+
+
+def live_trees(many, depth=5):
+    """Trees at random that go on behind failures, without those beyond the bounds."""
+    told = []
+    for seed in range(many):
+        tree = live_tree(seed, depth)
+        try:
+            must_tree(tree)
+        except NoTree:
+            continue
+        told.append(tree)
+    return told
 
 
 RULES = """

@@ -12,6 +12,10 @@ FUNCTIONS = {
     "writing": {"tight": "(tree)", "plain": "(tree)", "tight_spots": "(tree)"},
     "rooms": {"bindings": "(tree)", "outers": "(tree)", "rooms": "(tree)"},
     "teller": {"run": "(tree, ins, *, most=2000)"},
+    "code": {"code": "(tree)", "led": "(tree)", "code_slots": "(tree)"},
+    "machine": {"go": "(lines, ins, *, most=2000)"},
+    "naming": {"named": "(tree, naming)", "hinder": "(tree)", "barred": "(tree)", "cost": "(tree, naming)", "fair": "(tree, letters)"},
+    "supply": {"supply": "(letters, many)"},
 }
 ERRORS = {
     "LeanError": None, "NoText": "(at=0)", "NoTree": "(path=(), why='')", "NoPath": None, "NoNaming": "(one=None, other=None)",
