@@ -16,6 +16,9 @@ FUNCTIONS = {
     "machine": {"go": "(lines, ins, *, most=2000)"},
     "naming": {"named": "(tree, naming)", "hinder": "(tree)", "barred": "(tree)", "cost": "(tree, naming)", "fair": "(tree, letters)"},
     "supply": {"supply": "(letters, many)"},
+    "leastnames": {"least_naming": "(tree, letters)", "naming_judged": "(tree, letters, naming, paper)"},
+    "properties": {"properties": "(tree)", "props_named": "(tree, keep, names)", "props_least": "(tree, keep, letters)"},
+    "still": {"is_sure": "(tree, path)", "is_still": "(tree, path)"},
 }
 ERRORS = {
     "LeanError": None, "NoText": "(at=0)", "NoTree": "(path=(), why='')", "NoPath": None, "NoNaming": "(one=None, other=None)",
