@@ -128,7 +128,8 @@ def add_expression(script, part, path):
 def add_let(script, part, path):
     for at, pair in enumerate(part[1]):
         add_expression(script, pair[1], (*path, 1, at, 1))
-        add_line(script, path, ("first", script.plan.slot_at[(*path, 1, at, 0)]))
+        place = (*path, 1, at, 0)
+        add_line(script, path, ("first", script.plan.slot_at[place]))
 
 
 def add_alone(script, part, path):
@@ -165,6 +166,7 @@ def add_while(script, part, path):
 
 
 def add_try(script, part, path):
+    place = (*path, 2)
     caught = hold_line(script, path, "try")
     open_room(script, path, (*path, 1))
     add_statements(script, part[1], (*path, 1))
@@ -173,7 +175,7 @@ def add_try(script, part, path):
     behind = hold_line(script, path, "jump")
     lead_here(script, caught)
     open_room(script, path, (*path, 3))
-    add_line(script, path, ("first", script.plan.slot_at[(*path, 2)]))
+    add_line(script, path, ("first", script.plan.slot_at[place]))
     add_statements(script, part[3], (*path, 3))
     shut_room(script, path, (*path, 3))
     lead_here(script, behind)

@@ -101,6 +101,19 @@ class Words(unittest.TestCase):
                 if isinstance(node.value, str):
                     self.assertNotIn("%", node.value, place)
 
+    def test_no_star_in_an_index(self):
+        for place, node in nodes():
+            if isinstance(node, ast.Subscript):
+                self.assertFalse([one for one in ast.walk(node.slice) if isinstance(one, ast.Starred)], place)
+
+    def test_behind_a_star_in_a_call_stands_what_is_plain(self):
+        plain = (ast.Name, ast.Attribute, ast.Constant, ast.List, ast.Tuple, ast.Dict)
+        for place, node in nodes():
+            if isinstance(node, ast.Call) and any(isinstance(one, ast.Starred) for one in node.args):
+                first = [isinstance(one, ast.Starred) for one in node.args].index(True)
+                for one in node.args[first:]:
+                    self.assertIsInstance(one.value if isinstance(one, ast.Starred) else one, plain, place)
+
     def test_imports(self):
         graph = {}
         for file in files():
