@@ -20,9 +20,8 @@ def used_names(layout):
     return told
 
 
-def bindings(tree):
-    """Tuples (name, path, uses) of all bindings, by their paths."""
-    layout = layout_of(tree)
+def bindings_in(layout):
+    """Tuples (name, path, uses) of all bindings of a layout, by their paths."""
     named = names_by_room(layout)
     told = [(name, path, []) for path, name, _ in layout.names]
     for path, name, room in used_names(layout):
@@ -30,6 +29,11 @@ def bindings(tree):
         if number != -1:
             told[number][2].append(path)
     return told
+
+
+def bindings(tree):
+    """Tuples (name, path, uses) of all bindings, by their paths."""
+    return bindings_in(layout_of(tree))
 
 
 def outers(tree):

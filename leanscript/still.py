@@ -1,7 +1,7 @@
 """Uses that are sure, and expressions that are still."""
 
 from leanscript.errors import NoPath
-from leanscript.rooms import bindings, layout_of
+from leanscript.rooms import bindings_in, layout_of
 from leanscript.shapes import EXPRESSIONS, inner_parts
 from leanscript.trees import is_path
 
@@ -20,10 +20,10 @@ def is_behind_let(lets, place, use):
     return use[many - 1] > let[-1]
 
 
-def sure_uses(tree):
+def sure_uses(layout):
     """For the path of each use of a binding whether it is sure, as a dict."""
-    lets = {path: True for path, part, _, _ in layout_of(tree).parts if part[0] == "let"}
-    return {use: is_behind_let(lets, place, use) for _, place, uses in bindings(tree) for use in uses}
+    lets = {path: True for path, part, _, _ in layout.parts if part[0] == "let"}
+    return {use: is_behind_let(lets, place, use) for _, place, uses in bindings_in(layout) for use in uses}
 
 
 def is_still_part(sure, part, path):
@@ -39,7 +39,7 @@ def is_still_part(sure, part, path):
 
 def is_sure(tree, path):
     """Whether a use of a binding is sure."""
-    sure = sure_uses(tree)
+    sure = sure_uses(layout_of(tree))
     if not is_path(path) or path not in sure:
         raise NoPath("no use of a binding stands there")
     return sure[path]
@@ -47,7 +47,8 @@ def is_sure(tree, path):
 
 def is_still(tree, path):
     """Whether an expression is still."""
-    found = {place: part for place, part, _, _ in layout_of(tree).parts if part[0] in EXPRESSIONS}
+    layout = layout_of(tree)
+    found = {place: part for place, part, _, _ in layout.parts if part[0] in EXPRESSIONS}
     if not is_path(path) or path not in found:
         raise NoPath("no expression stands there")
-    return is_still_part(sure_uses(tree), found[path], path)
+    return is_still_part(sure_uses(layout), found[path], path)

@@ -62,13 +62,36 @@ def is_great(layout):
     return any([depth > MOST_DEPTH for _, _, depth, _ in layout.parts])
 
 
-def must_tree(thing):
-    """Refuses anything that is no tree."""
-    must_have_form(thing)
+def must_hold_together(thing):
+    """Refuses a thing that has the form of a tree, but is none."""
     layout = laid_out(thing)
     must_fit(layout)
     if is_great(layout):
         raise NoTree((), "great")
+
+
+def must_tree(thing):
+    """Refuses anything that is no tree."""
+    must_have_form(thing)
+    must_hold_together(thing)
+
+
+def is_tree(thing):
+    """Whether anything is a tree."""
+    try:
+        must_tree(thing)
+    except NoTree:
+        return False
+    return True
+
+
+def holds_together(thing):
+    """Whether a thing that has the form of a tree is one."""
+    try:
+        must_hold_together(thing)
+    except NoTree:
+        return False
+    return True
 
 
 def is_path(thing):

@@ -122,20 +122,21 @@ def list_words(statements):
     return told[:-1] if told and told[-1] == ";" else told
 
 
-def tree_words(tree):
-    """The words of the shortest text of a tree."""
-    must_tree(tree)
-    return list_words(tree)
+def tight_text(tree):
+    """The shortest text of what is known to be a tree."""
+    told = []
+    is_sign_ahead = True
+    for word in list_words(tree):
+        is_sign = not is_letter_or_figure(word[0])
+        told.append(word if is_sign or is_sign_ahead else " " + word)
+        is_sign_ahead = is_sign
+    return "".join(told)
 
 
 def tight(tree):
     """The shortest text of a tree, of several such the first."""
-    told = ""
-    for word in tree_words(tree):
-        if told != "" and is_letter_or_figure(told[-1]) and is_letter_or_figure(word[0]):
-            told = told + " "
-        told = told + word
-    return told
+    must_tree(tree)
+    return tight_text(tree)
 
 
 def tight_spots(tree):
@@ -145,4 +146,5 @@ def tight_spots(tree):
 
 def plain(tree):
     """The words of a tree, each in a line of its own."""
-    return "\n".join(tree_words(tree))
+    must_tree(tree)
+    return "\n".join(list_words(tree))

@@ -19,6 +19,11 @@ FUNCTIONS = {
     "leastnames": {"least_naming": "(tree, letters)", "naming_judged": "(tree, letters, naming, paper)"},
     "properties": {"properties": "(tree)", "props_named": "(tree, keep, names)", "props_least": "(tree, keep, letters)"},
     "still": {"is_sure": "(tree, path)", "is_still": "(tree, path)"},
+    "reach": {"reach": "(tree)", "reach_judged": "(tree, thing)", "unreached": "(tree)"},
+    "goings": {"gone": "(tree)", "without": "(tree, path)", "bare": "(tree)"},
+    "turnings": {"turnings": "(tree)", "turned": "(tree, path, word)"},
+    "search": {"leaner": "(tree)", "all_turned": "(tree)", "least_turned": "(tree)", "steps_judged": "(tree, steps, other)",
+               "closed": "(tree, thing)"},
 }
 ERRORS = {
     "LeanError": None, "NoText": "(at=0)", "NoTree": "(path=(), why='')", "NoPath": None, "NoNaming": "(one=None, other=None)",

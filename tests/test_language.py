@@ -54,6 +54,17 @@ def names_bound(node):
     return []
 
 
+def methods_defined():
+    """Tuples (place, name) of all methods."""
+    return [(f"{place.split(':')[0]}:{method.lineno}", method.name) for place, node in nodes() if isinstance(node, ast.ClassDef)
+            for method in node.body if isinstance(method, ast.FunctionDef)]
+
+
+def parents(tree):
+    """For each node of a tree the one in which it stands straight."""
+    return {inner: node for node in ast.walk(tree) for inner in ast.iter_child_nodes(node)}
+
+
 class Files(unittest.TestCase):
 
     def test_nothing_else_in_the_folder(self):
@@ -114,6 +125,48 @@ class Words(unittest.TestCase):
                 for one in node.args[first:]:
                     self.assertIsInstance(one.value if isinstance(one, ast.Starred) else one, plain, place)
 
+    def test_what_is_iterated_stands_where_it_is_iterated(self):
+        steps = ("zip", "enumerate", "reversed", "range")
+        takers = ("list", "tuple", "dict", "sorted", "sum", "any", "all", "enumerate", "zip", "min", "max")
+        for file in files():
+            tree = ast.parse(file.read_text())
+            around = parents(tree)
+            for node in ast.walk(tree):
+                if not isinstance(node, ast.Call):
+                    continue
+                is_view = isinstance(node.func, ast.Attribute) and node.func.attr in ("items", "keys", "values")
+                if is_view or isinstance(node.func, ast.Name) and node.func.id in steps:
+                    outer = around[node]
+                    taken = isinstance(outer, ast.Call) and isinstance(outer.func, ast.Name) and outer.func.id in takers
+                    looped = isinstance(outer, (ast.For, ast.comprehension)) and outer.iter is node
+                    self.assertTrue(taken or looped, f"{file.name}:{node.lineno}")
+
+    def test_sets_stand_where_they_may(self):
+        for file in files():
+            tree = ast.parse(file.read_text())
+            around = parents(tree)
+            for node in ast.walk(tree):
+                if isinstance(node, ast.Call) and isinstance(node.func, ast.Name) and node.func.id == "set":
+                    outer = around[node]
+                    taken = isinstance(outer, ast.Call) and isinstance(outer.func, ast.Name) and outer.func.id in ("sorted", "len")
+                    self.assertTrue(taken and not outer.keywords, f"{file.name}:{node.lineno}")
+
+    def test_keywords_of_builtins(self):
+        known = {"sorted": ("key", "reverse"), "min": ("key", "default"), "max": ("key", "default"), "sum": ("start",), "enumerate": ("start",),
+                 "zip": ("strict",)}
+        for place, node in nodes():
+            if isinstance(node, ast.Call) and isinstance(node.func, ast.Name) and node.func.id in BUILTINS:
+                for keyword in node.keywords:
+                    self.assertIn(keyword.arg, known.get(node.func.id, ()), place)
+
+    def test_errors_are_made_where_they_are_raised(self):
+        for place, node in nodes():
+            if isinstance(node, ast.Raise):
+                self.assertTrue(node.exc is None or isinstance(node.exc, ast.Call) and isinstance(node.exc.func, ast.Name), place)
+            if isinstance(node, ast.ExceptHandler):
+                self.assertIsInstance(node.type, ast.Name, place)
+                self.assertNotIn(node.type.id, dir(builtins), place)
+
     def test_imports(self):
         graph = {}
         for file in files():
@@ -145,9 +198,10 @@ class Words(unittest.TestCase):
                         self.assertIn(alias.name, used, file.name)
 
     def test_names(self):
+        methods = methods_defined()
         for place, node in nodes():
             for name in names_bound(node):
-                self.assertNotIn(name, dir(builtins), place)
+                self.assertNotIn(name, BUILTINS if (place, name) in methods else dir(builtins), place)
                 self.assertNotIn(name, BARRED, place)
                 if not (name.startswith("__") and name.endswith("__")):
                     self.assertRegex(name, r"^(_|_?[A-Za-z][A-Za-z0-9_]*)$", place)
