@@ -65,7 +65,7 @@ def remade(tree, thing, path, changes, around):
 
 
 def changed(tree, changes):
-    """A tree with changes, a dict by their paths, none of which lies within another one that is of use."""
+    """A tree with changes, a dict by their paths; one that lies within another one changes nothing."""
     around = {path[:many]: True for path in changes for many in range(len(path))}
     return remade(tree, tree, (), changes, around)
 

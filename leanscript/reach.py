@@ -18,7 +18,7 @@ def waiting_pairs(survey):
 def holder_of(pairs, use):
     """The innermost of some pairs in whose expression a use lies, None where there is none."""
     for many in range(len(use) - 1, 0, -1):
-        if use[many] == 1 and use[:many] in pairs:
+        if use[:many] in pairs:
             return use[:many]
     return None
 

@@ -138,7 +138,7 @@ def choose(tree, path, part):
     if chosen is None:
         chosen = made(part.came, "block", ())
     elif chosen[0] == "let":
-        chosen = made(part.came, "block", (chosen,))
+        chosen = made(part.came, "block", made(None, chosen))
     return [(path, [chosen])]
 
 
@@ -212,7 +212,7 @@ def open_(tree, path, part):
 
 def give(tree, path, part):
     if part[0] == "fn" and len(part[2]) == 1 and part[2][0][0] == "return":
-        return [(path, [made(part.came, "fn", part[1], ("give", part[2][0][1]))])]
+        return [(path, [made(part.came, "fn", part[1], made(None, "give", part[2][0][1]))])]
     return None
 
 

@@ -24,6 +24,15 @@ FUNCTIONS = {
     "turnings": {"turnings": "(tree)", "turned": "(tree, path, word)"},
     "search": {"leaner": "(tree)", "all_turned": "(tree)", "least_turned": "(tree)", "steps_judged": "(tree, steps, other)",
                "closed": "(tree, thing)"},
+    "maps": {"is_map": "(thing, text, other)", "lead": "(entries, at)", "after": "(entries, other)", "map_text": "(entries)", "read_map": "(text)"},
+    "whole": {"lean": "(text, letters, *, keep=())", "leaned": "(text, letters, *, keep=())", "runs_alike": "(one, other, many)",
+              "alike": "(one, other)"},
+}
+# For each file its class, with the arguments that make one and its methods with theirs.
+CLASSES = {
+    "tracing": ("Trace", "(text)", {"turn": "(self, path, word)", "rename": "(self, naming)", "props": "(self, keep, names)", "bare": "(self)", "lean": "(self)",
+                                    "back": "(self)", "tree": "(self)", "text": "(self)", "map": "(self)", "steps": "(self)"}),
+    "desk": ("Desk", "(*, letters='abcdefghijklmnopqrstuvwxyz')", {"say": "(self, line)"}),
 }
 ERRORS = {
     "LeanError": None, "NoText": "(at=0)", "NoTree": "(path=(), why='')", "NoPath": None, "NoNaming": "(one=None, other=None)",
@@ -42,6 +51,16 @@ class Interface(unittest.TestCase):
                 self.assertEqual(function.__module__, "leanscript." + file)
                 self.assertEqual(str(inspect.signature(function)), arguments, word)
 
+    def test_classes(self):
+        for file, (word, arguments, methods) in CLASSES.items():
+            made = getattr(importlib.import_module("leanscript." + file), word)
+            self.assertTrue(inspect.isclass(made))
+            self.assertEqual(made.__module__, "leanscript." + file)
+            self.assertEqual(str(inspect.signature(made)), arguments)
+            for method, more in methods.items():
+                self.assertTrue(inspect.isfunction(vars(made)[method]))
+                self.assertEqual(str(inspect.signature(vars(made)[method])), more)
+
     def test_errors(self):
         module = importlib.import_module("leanscript.errors")
         for word, arguments in ERRORS.items():
@@ -51,6 +70,9 @@ class Interface(unittest.TestCase):
 
     def test_most(self):
         self.assertEqual(importlib.import_module("leanscript.teller").MOST, 2000)
+
+    def test_letters(self):
+        self.assertEqual(importlib.import_module("leanscript.desk").LETTERS, "abcdefghijklmnopqrstuvwxyz")
 
 
 if __name__ == "__main__":

@@ -152,6 +152,9 @@ class Judged(unittest.TestCase):
         for rows in ([c, b], [c, a], [b, a]):
             self.judged(False, rows)
         self.judged(False, [c, b, a, a])
+        self.judged(False, [c, b, b])
+        self.judged(False, [c, c, b])
+        self.judged(False, [c, b, (self.b, self.set_b)])
         self.judged(False, [c, b, a, (self.b, self.set_b)])
         self.judged(False, [a, b, c])
         self.judged(False, [c, a, b])
