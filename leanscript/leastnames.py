@@ -33,9 +33,8 @@ def all_masks(problem):
     return {mask: True for mask in range(problem.whole + 1)}
 
 
-def least_naming(tree, letters):
-    """A naming that costs least, and a paper that none costs less."""
-    problem = problem_of(tree, letters)
+def least_of(problem):
+    """What a naming costs at least, and one that costs it."""
     masks = all_masks(problem)
     groups = [mask for mask in masks if mask > 0 and are_friends(problem, members(mask))]
     places = places_in(problem, problem.unnamed)
@@ -44,6 +43,19 @@ def least_naming(tree, letters):
     for group, at in given:
         for i in members(group):
             naming[i] = problem.names[at]
+    return (goal, naming)
+
+
+def least_names(tree, letters):
+    """The naming of least_naming, without its paper, which can take long."""
+    _, naming = least_of(problem_of(tree, letters))
+    return naming
+
+
+def least_naming(tree, letters):
+    """A naming that costs least, and a paper that none costs less."""
+    problem = problem_of(tree, letters)
+    goal, naming = least_of(problem)
     return (naming, paper_for(problem, goal))
 
 

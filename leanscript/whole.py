@@ -1,7 +1,7 @@
 """The whole: texts made short, with maps that lead back, and trees held against each other."""
 
 from leanscript.edits import thing_at
-from leanscript.leastnames import MOST_BINDINGS, least_naming
+from leanscript.leastnames import MOST_BINDINGS, least_names
 from leanscript.naming import fair
 from leanscript.properties import props_least
 from leanscript.rooms import bindings, outers
@@ -15,8 +15,7 @@ def short_naming(tree, letters):
     """A naming that costs least, or of too many bindings a fair one."""
     if len(bindings(tree)) > MOST_BINDINGS:
         return fair(tree, letters)
-    naming, _ = least_naming(tree, letters)
-    return naming
+    return least_names(tree, letters)
 
 
 def make_lean(trace):

@@ -7,7 +7,7 @@ from helper import asked_again, do, live_trees, num, refusal, thing_at, trees_at
 from leanscript.errors import NoLetters, NoText, NoTree
 from leanscript.goings import bare
 from leanscript.leastnames import least_naming
-from leanscript.maps import is_map
+from leanscript.maps import after, is_map, lead, map_text, read_map
 from leanscript.naming import cost, fair, named
 from leanscript.properties import properties, props_least, props_named
 from leanscript.reading import read
@@ -16,6 +16,7 @@ from leanscript.search import leaner
 from leanscript.teller import run
 from leanscript.trees import is_tree
 from leanscript.whole import alike, lean, leaned, runs_alike
+from leanscript.words import words
 from leanscript.writing import plain, tight
 from programs import INS, PROGRAMS
 from turnable import turnable_trees
@@ -116,6 +117,31 @@ class Lean(unittest.TestCase):
         short, entries = lean(text, "ab")
         self.assertEqual(short, "out 3+k")
         self.assertEqual([(short[begin:end], text[first:last]) for begin, end, first, last in entries], [("out", "out long + k"), ("3", "long"), ("+", "long + k"), ("k", "k")])
+
+    def test_each_word_of_a_short_text_leads_back(self):
+        for text in TEXTS:
+            text = tight(read(text))
+            short, entries = lean(text, "abc")
+            same = [(at, at + len(word), at, at + len(word)) for _, word, at in words(text)]
+            self.assertEqual(len(entries), len(words(short)))
+            for begin, end, first, last in entries:
+                self.assertEqual(lead(entries, begin), (first, last))
+                self.assertEqual(lead(entries, end - 1), (first, last))
+                self.assertLess(first, last)
+            # Each stretch is that of whole words.
+            self.assertEqual(after(entries, same), entries)
+            self.assertEqual(read_map(map_text(entries)), entries)
+
+    def test_names_cost_no_more_than_the_signs(self):
+        for text in TEXTS:
+            told = leaned(text, "abc")
+            for one in told:
+                tree = read(one)
+                names = [name for name, _, _ in bindings(tree)]
+                self.assertLessEqual(cost(tree, names), len(one))
+            second = read(told[1])
+            self.assertEqual(len(told[1]) - len(told[2]),
+                             cost(second, [name for name, _, _ in bindings(second)]) - cost(read(told[2]), [name for name, _, _ in bindings(read(told[2]))]))
 
     def test_the_short_text_runs_alike(self):
         tried = 0
